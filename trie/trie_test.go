@@ -131,8 +131,8 @@ func TestP701EveryNode(t *testing.T) {
 	}
 }
 
-// All short lists of phrases of two letters, in every order.
-func TestP701AllSmallTrees(t *testing.T) {
+// All lists of up to three of nine short phrases of two letters, in every order.
+func TestP701SmallTrees(t *testing.T) {
 	texts := []string{"a", "b", "aa", "ab", "ba", "bb", "aab", "aba", "bab"}
 	var all func(l []string)
 	all = func(l []string) {
